@@ -1,0 +1,1 @@
+"""Morethanhalf: the one that more than half are, by likenings alone."""
