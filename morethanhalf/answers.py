@@ -21,16 +21,14 @@ def moved(homes, old, new):
 
 
 def homes_of(answers):
-    """For each thing that answers name, the least thing of its group."""
+    """For each thing that answers name, a thing of its group, one for the whole group."""
     # Only named things are kept, for many may be far greater than the answers reach.
     homes = {}
     for i, j, alike in answers:
         homes.setdefault(i, i)
         homes.setdefault(j, j)
         if alike:
-            low = min(homes[i], homes[j])
-            high = max(homes[i], homes[j])
-            homes = moved(homes, high, low)
+            homes = moved(homes, homes[j], homes[i])
     return homes
 
 
