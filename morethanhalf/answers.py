@@ -1,7 +1,8 @@
 """Answers of who is alike: whether they can be right, and what they tell."""
 
+from morethanhalf.ends import common_end, half_ends
 from morethanhalf.errors import NoFit, NoThing
-from morethanhalf.kinds import alike_things, all_sorts, more_than_half, sorts_of
+from morethanhalf.kinds import alike_things, all_sorts, sorts_of
 
 
 def check_things(many, answers):
@@ -53,17 +54,16 @@ def fits(kinds, answers):
     return True
 
 
-def tells(many, answers):
-    """What the answers tell of the kind that more than half are."""
+def sorts_that_fit(many, answers):
+    """All sorts that the answers fit, of answers that can be right and few enough things."""
     check_right(many, answers)
     # all_sorts refuses too many things, and must stand behind the other refusals.
-    halves = [more_than_half(sort) for sort in all_sorts(many, many) if fits(sort, answers)]
-    if not any(halves):
-        return ("none",)
-    for thing in range(many):
-        if all([thing in things for things in halves]):
-            return ("one", thing)
-    return ("open",)
+    return [sort for sort in all_sorts(many, many) if fits(sort, answers)]
+
+
+def tells(many, answers):
+    """What the answers tell of the kind that more than half are."""
+    return common_end([half_ends(sort) for sort in sorts_that_fit(many, answers)])
 
 
 def unlike_pairs(numbers, answers):

@@ -5,7 +5,10 @@ import unittest
 from morethanhalf import errors
 from morethanhalf.answers import can_be, groups_of, tells
 from morethanhalf.errors import HalfError
+from morethanhalf.holding import holding_paper, holds
 from morethanhalf.kinds import all_sorts
+from morethanhalf.most import fewest_most, tells_most
+from morethanhalf.trees import fewest, fewest_of_two, finds_out
 
 NAMES = ["NoThing", "NoFit", "TooMany", "NoName", "NoAsk", "NoText", "NoForm", "NoneYet"]
 
@@ -22,6 +25,22 @@ REFUSALS = [
     ("NoThing", lambda: groups_of(-1, [])),
     ("NoFit", lambda: tells(3, WRONG)),
     ("NoFit", lambda: groups_of(3, WRONG)),
+    ("NoThing", lambda: finds_out(-1, ("none",))),
+    ("TooMany", lambda: finds_out(8, ("none",))),
+    ("NoThing", lambda: fewest(0)),
+    ("TooMany", lambda: fewest(6)),
+    ("NoThing", lambda: fewest_of_two(0)),
+    ("TooMany", lambda: fewest_of_two(8)),
+    ("NoThing", lambda: holds(1, 0, ())),
+    ("TooMany", lambda: holds(5, 0, ())),
+    ("NoThing", lambda: holding_paper(1)),
+    ("TooMany", lambda: holding_paper(5)),
+    ("NoThing", lambda: tells_most(-1, [])),
+    ("NoThing", lambda: tells_most(8, WRONG + [(8, 0, True)])),
+    ("NoFit", lambda: tells_most(8, WRONG)),
+    ("TooMany", lambda: tells_most(8, [])),
+    ("NoThing", lambda: fewest_most(0)),
+    ("TooMany", lambda: fewest_most(5)),
 ]
 
 

@@ -120,6 +120,28 @@ class TheNames(unittest.TestCase):
                     self.assertFalse(bound.startswith("_"), (name, line, bound))
                     self.assertNotIn(bound, dir(builtins), (name, line))
 
+    def test_no_import_is_given_another_meaning(self):
+        for name, tree in trees():
+            imports = [node for node in ast.walk(tree) if isinstance(node, ast.ImportFrom)]
+            imported = [each.asname or each.name for node in imports for each in node.names]
+            self.assertEqual(len(imported), len(set(imported)), name)
+            for bound, line in bound_names(tree):
+                self.assertNotIn(bound, imported, (name, line))
+
+    def test_imports_name_the_file_that_defines_the_name(self):
+        defined = {}
+        for name, tree in trees():
+            named = [node for node in tree.body if isinstance(node, (ast.FunctionDef, ast.ClassDef))]
+            assigned = [node for node in tree.body if isinstance(node, ast.Assign)]
+            names = [node.name for node in named] + [target.id for node in assigned for target in node.targets]
+            self.assertEqual(len(names), len(set(names)), name)
+            defined["morethanhalf." + name.removesuffix(".py")] = names
+        for name, tree in trees():
+            for node in ast.walk(tree):
+                if isinstance(node, ast.ImportFrom) and node.module != "__future__":
+                    for each in node.names:
+                        self.assertIn(each.name, defined[node.module], (name, node.lineno))
+
     def test_called_names_are_own_or_allowed(self):
         own = {bound for name, tree in trees() for bound, line in bound_names(tree)}
         for name, tree in trees():

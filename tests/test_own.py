@@ -4,7 +4,11 @@ import copy
 import unittest
 
 from morethanhalf.answers import can_be, groups_of, tells
+from morethanhalf.holding import holding_paper, holds
 from morethanhalf.kinds import all_sorts, more_than_half, most_are, sorts_of
+from morethanhalf.most import fewest_most, one_by_one, tells_most
+from morethanhalf.rows import in_a_row, in_rows
+from morethanhalf.trees import depth, fewest, fewest_of_two, finds_out
 
 ANSWERS = [(0, 1, True), (2, 1, False), (4, 3, True), (2, 3, False)]
 
@@ -25,6 +29,29 @@ CALLS = [
     (groups_of, (5, ANSWERS)),
     (groups_of, (3, [])),
     (groups_of, (0, [])),
+    (in_a_row, ([4, 1, 4, 2, 4],)),
+    (in_a_row, ([4, 1, 4, 1],)),
+    (in_a_row, ([4],)),
+    (in_a_row, ([],)),
+    (in_rows, ([4, 4, 1, 2, 4],)),
+    (in_rows, ([4, 1, 4, 1],)),
+    (in_rows, ([4],)),
+    (in_rows, ([],)),
+    (finds_out, (2, ("ask", 0, 1, ("one", 0), ("none",)))),
+    (depth, (("ask", 0, 1, ("one", 0), ("none",)),)),
+    (fewest, (4,)),
+    (fewest_of_two, (6,)),
+    (holds, (3, 2, holding_paper(3))),
+    (holds, (3, 2, [(True, []), (False, [[], []]), []])),
+    (holding_paper, (2,)),
+    (holding_paper, (3,)),
+    (holding_paper, (4,)),
+    (one_by_one, ([4, 1, 1, 4, 2],)),
+    (one_by_one, ([4],)),
+    (one_by_one, ([],)),
+    (tells_most, (5, ANSWERS)),
+    (tells_most, (0, [])),
+    (fewest_most, (4,)),
 ]
 
 
@@ -70,6 +97,28 @@ class TheAskersOwn(unittest.TestCase):
             self.assertEqual(sorts_of(sort), sort)
             self.assertEqual(most_are(sorts_of(sort)), most_are(sort))
 
+    def test_asks_that_are_told_may_be_handed_in(self):
+        for asked in (in_a_row, in_rows, one_by_one):
+            for kinds in all_sorts(5, 5) + [[0, 1, 1, 2] * 15]:
+                asks, found = asked(kinds)
+                self.assertIs(can_be(len(kinds), asks), True)
+                groups_of(len(kinds), asks)
+        for kinds in all_sorts(5, 5):
+            asks, things = one_by_one(kinds)
+            self.assertEqual(tells_most(5, asks), ("one", things[0]))
+            self.assertEqual(groups_of(5, asks)[0], groups_of(5, asks[::-1])[0])
+
+    def test_trees_and_papers_that_are_told_may_be_handed_in(self):
+        for many in range(1, 6):
+            number, tree = fewest(many)
+            self.assertEqual((finds_out(many, tree), depth(tree)), (True, number))
+        for many in range(1, 8):
+            number, tree = fewest_of_two(many)
+            self.assertEqual(depth(tree), number)
+            self.assertIs(finds_out(many, tree), many < 3)
+        for many in (2, 3, 4):
+            self.assertIs(holds(many, fewest(many)[0] - 1, holding_paper(many)), True)
+
 
 class TheKindsOfValues(unittest.TestCase):
     def kinds_in(self, value):
@@ -89,7 +138,28 @@ class TheKindsOfValues(unittest.TestCase):
         for many, due in ((0, {tuple, str}), (1, {tuple, str, int}), (2, {tuple, str})):
             self.assertEqual(self.kinds_in(tells(many, [])), due)
 
+    def test_asks_and_what_is_found(self):
+        for asked in (in_a_row, in_rows):
+            for kinds in ([], [3], [3, 4], [3, 3, 4], [3, 4, 5]):
+                told = asked(kinds)
+                self.assertEqual([type(told), type(told[0]), type(told[1])], [tuple, list, tuple])
+                for answer in told[0]:
+                    self.assertEqual([type(answer)] + [type(each) for each in answer], [tuple, int, int, bool])
+                self.assertEqual(type(told[1][-1]), str if told[1][0] == "none" else int)
+
+    def test_tuples_of_what_answers_tell_of_the_most(self):
+        for many, due in ((0, {tuple, str}), (1, {tuple, str, int}), (3, {tuple, str})):
+            self.assertEqual(self.kinds_in(tells_most(many, [])), due)
+
+    def test_numbers(self):
+        for number in (depth(("none",)), fewest_most(1), fewest_most(4), fewest(1)[0], fewest_of_two(7)[0]):
+            self.assertIs(type(number), int)
+
     def test_truths(self):
+        self.assertIs(finds_out(0, ("none",)), True)
+        self.assertIs(finds_out(1, ("none",)), False)
+        self.assertIs(holds(2, 0, ()), True)
+        self.assertIs(holds(2, 0, []), False)
         self.assertIs(can_be(2, [(0, 1, True)]), True)
         self.assertIs(can_be(2, [(0, 1, False)]), True)
         self.assertIs(can_be(2, [(0, 1, True), (0, 1, False)]), False)
