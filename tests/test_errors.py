@@ -4,15 +4,38 @@ import unittest
 
 from morethanhalf import errors
 from morethanhalf.answers import can_be, groups_of, tells
+from morethanhalf.desk import Desk
 from morethanhalf.errors import HalfError
 from morethanhalf.holding import holding_paper, holds
+from morethanhalf.kept import Keeper
 from morethanhalf.kinds import all_sorts
 from morethanhalf.most import fewest_most, tells_most
+from morethanhalf.tellers import in_a_chain, liars_that_fit, surely_true
+from morethanhalf.texts import read_tree
 from morethanhalf.trees import fewest, fewest_of_two, finds_out
 
 NAMES = ["NoThing", "NoFit", "TooMany", "NoName", "NoAsk", "NoText", "NoForm", "NoneYet"]
 
 WRONG = [(0, 1, True), (1, 2, True), (2, 0, False)]
+
+
+
+def desk_of(*rows):
+    desk = Desk()
+    for row in rows:
+        desk.say(row)
+    return desk
+
+
+def keeper_of(*names):
+    """A keeper that these came to, the last of them not answered for."""
+    keeper = Keeper()
+    for name in names:
+        while keeper.wants() is not None:
+            keeper.hear(False)
+        keeper.come(name)
+    return keeper
+
 
 REFUSALS = [
     ("TooMany", lambda: all_sorts(8, 8)),
@@ -41,6 +64,39 @@ REFUSALS = [
     ("TooMany", lambda: tells_most(8, [])),
     ("NoThing", lambda: fewest_most(0)),
     ("TooMany", lambda: fewest_most(5)),
+    ("NoThing", lambda: liars_that_fit(0, [])),
+    ("NoThing", lambda: liars_that_fit(11, [(11, 0, True)])),
+    ("TooMany", lambda: liars_that_fit(11, [])),
+    ("NoThing", lambda: surely_true(-1, [])),
+    ("NoThing", lambda: surely_true(3, [(1, 1, True)])),
+    ("TooMany", lambda: surely_true(11, [])),
+    ("NoFit", lambda: surely_true(2, [(0, 1, False)])),
+    ("NoFit", lambda: in_a_chain([])),
+    ("NoFit", lambda: in_a_chain([True, False])),
+    ("NoAsk", lambda: Keeper().hear(True)),
+    ("NoName", lambda: Keeper().go(1)),
+    ("NoName", lambda: keeper_of(1).come(1)),
+    ("NoAsk", lambda: keeper_of(1, 2).come(1)),
+    ("NoAsk", lambda: keeper_of(1, 2).come(3)),
+    ("NoAsk", lambda: keeper_of(1, 2).go(1)),
+    ("NoAsk", lambda: keeper_of(1, 2).go(3)),
+    ("NoAsk", lambda: keeper_of(1, 2).most()),
+    ("NoAsk", lambda: keeper_of(1, 2).groups()),
+    ("NoAsk", lambda: keeper_of(1, 2).heard()),
+    ("NoText", lambda: read_tree("")),
+    ("NoText", lambda: read_tree("i00")),
+    ("NoText", lambda: read_tree("0?1(i0:none")),
+    ("NoText", lambda: read_tree("none ")),
+    ("NoForm", lambda: Desk().say("")),
+    ("NoForm", lambda: Desk().say(None)),
+    ("NoForm", lambda: Desk().say("things 8")),
+    ("NoneYet", lambda: Desk().say("fewest")),
+    ("NoneYet", lambda: Desk().say("0 0 like")),
+    ("NoneYet", lambda: Desk().say("tree ")),
+    ("NoText", lambda: desk_of("things 2").say("tree ")),
+    ("NoThing", lambda: desk_of("things 2").say("0 2 like")),
+    ("NoThing", lambda: desk_of("things 2").say("1 1 like")),
+    ("NoFit", lambda: desk_of("things 2", "0 1 like").say("0 1 unlike")),
 ]
 
 
@@ -68,6 +124,9 @@ class TheRefusals(unittest.TestCase):
                 self.assertIsInstance(caught.exception, HalfError)
                 of = [each for each in NAMES if isinstance(caught.exception, getattr(errors, each))]
                 self.assertEqual(of, [name])
+
+    def test_each_class_is_refused_with(self):
+        self.assertEqual({name for name, call in REFUSALS}, set(NAMES))
 
 
 if __name__ == "__main__":

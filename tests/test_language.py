@@ -151,6 +151,46 @@ class TheNames(unittest.TestCase):
                 if isinstance(node, ast.Call) and isinstance(node.func, ast.Attribute):
                     self.assertIn(node.func.attr, METHODS | own, (name, node.lineno))
 
+    def test_imports_go_one_way(self):
+        imported = {}
+        for name, tree in trees():
+            froms = [node.module for node in ast.walk(tree) if isinstance(node, ast.ImportFrom)]
+            imported["morethanhalf." + name.removesuffix(".py")] = [each for each in froms if each != "__future__"]
+        while imported:
+            last = [name for name in imported if not any(each in imported for each in imported[name])]
+            self.assertTrue(last, sorted(imported))
+            for name in last:
+                del imported[name]
+
+
+class TheClasses(unittest.TestCase):
+    def classes(self):
+        return [node for name, tree in trees() for node in ast.walk(tree) if isinstance(node, ast.ClassDef)]
+
+    def attributes(self, context):
+        nodes = [node for name, tree in trees() for node in ast.walk(tree) if isinstance(node, ast.Attribute)]
+        return {node.attr for node in nodes if isinstance(node.ctx, context)}
+
+    def test_methods_and_attributes_have_names_of_their_own(self):
+        for node in self.classes():
+            methods = [each.name for each in node.body if isinstance(each, ast.FunctionDef)]
+            self.assertEqual(len(methods), len(set(methods)), node.name)
+            self.assertEqual(set(methods) & self.attributes(ast.Store), set(), node.name)
+            for each in set(methods) - set(DOUBLE_UNDERSCORE):
+                kinds = (str, int, list, dict, set, bytes, tuple)
+                self.assertFalse([kind for kind in kinds if hasattr(kind, each)], (node.name, each))
+
+    def test_attributes_that_are_read_are_assigned(self):
+        methods = {each.name for node in self.classes() for each in node.body if isinstance(each, ast.FunctionDef)}
+        self.assertEqual(self.attributes(ast.Load) - self.attributes(ast.Store) - methods - METHODS, set())
+
+    def test_only_methods_in_a_class(self):
+        for node in self.classes():
+            self.assertLessEqual(len(node.bases), 1, node.name)
+            for each in node.body:
+                is_docstring = isinstance(each, ast.Expr) and isinstance(each.value, ast.Constant)
+                self.assertTrue(isinstance(each, ast.FunctionDef) or is_docstring, node.name)
+
 
 if __name__ == "__main__":
     unittest.main()

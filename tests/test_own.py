@@ -4,13 +4,28 @@ import copy
 import unittest
 
 from morethanhalf.answers import can_be, groups_of, tells
+from morethanhalf.desk import Desk
 from morethanhalf.holding import holding_paper, holds
+from morethanhalf.kept import Keeper
 from morethanhalf.kinds import all_sorts, more_than_half, most_are, sorts_of
 from morethanhalf.most import fewest_most, one_by_one, tells_most
 from morethanhalf.rows import in_a_row, in_rows
+from morethanhalf.tellers import in_a_chain, liars_that_fit, surely_true
+from morethanhalf.texts import read_tree, show_tree
 from morethanhalf.trees import depth, fewest, fewest_of_two, finds_out
 
 ANSWERS = [(0, 1, True), (2, 1, False), (4, 3, True), (2, 3, False)]
+
+
+def most_kept(names):
+    """What a keeper tells of these names, which are all alike."""
+    keeper = Keeper()
+    for name in names:
+        keeper.come(name)
+        while keeper.wants() is not None:
+            keeper.hear(True)
+    return keeper.most()
+
 
 CALLS = [
     (more_than_half, ([4, 1, 4],)),
@@ -52,6 +67,19 @@ CALLS = [
     (tells_most, (5, ANSWERS)),
     (tells_most, (0, [])),
     (fewest_most, (4,)),
+    (liars_that_fit, (1, [])),
+    (liars_that_fit, (10, [])),
+    (liars_that_fit, (5, ANSWERS)),
+    (liars_that_fit, (2, [(0, 1, False)])),
+    (surely_true, (3, [])),
+    (surely_true, (3, [(0, 1, True)])),
+    (surely_true, (5, ANSWERS)),
+    (in_a_chain, ([True],)),
+    (in_a_chain, ([False, True, True, False, True],)),
+    (most_kept, ([],)),
+    (most_kept, ([4, 2, 3],)),
+    (show_tree, (("ask", 0, 1, ("one", 0), ("none",)),)),
+    (read_tree, ("0?1(i0:none)",)),
 ]
 
 
@@ -118,6 +146,45 @@ class TheAskersOwn(unittest.TestCase):
             self.assertIs(finds_out(many, tree), many < 3)
         for many in (2, 3, 4):
             self.assertIs(holds(many, fewest(many)[0] - 1, holding_paper(many)), True)
+
+    def test_sayings_and_truths_that_are_told_may_be_handed_in(self):
+        for truths in ([True], [True, False, True], [False, True, True, False, True], [True] * 10):
+            sayings, known = in_a_chain(truths)
+            liars = [teller for teller, true in enumerate(truths) if not true]
+            self.assertEqual(liars_that_fit(len(truths), sayings), [liars])
+            self.assertEqual(surely_true(len(truths), sayings + sayings[:5]), [
+                teller for teller, true in enumerate(truths) if true
+            ])
+            self.assertEqual(in_a_chain(known), (sayings, known))
+
+    def test_texts_and_names_that_are_told_may_be_handed_in(self):
+        for many in range(1, 6):
+            number, tree = fewest(many)
+            self.assertIs(finds_out(many, read_tree(show_tree(tree))), True)
+            desk = Desk()
+            desk.say(f"things {many}")
+            self.assertEqual(desk.say("tree " + show_tree(tree)), "finds " + desk.say("fewest"))
+        names = most_kept([4, 2, 3])
+        self.assertEqual(most_kept(names), names)
+        self.assertEqual(more_than_half(names), [])
+
+    def test_what_is_told_is_not_changed_by_what_is_done_later(self):
+        keeper = Keeper()
+        told = []
+        for name, alike in ((5, None), (6, True), (7, True), (8, False)):
+            keeper.come(name)
+            if alike is not None:
+                wanted = keeper.wants()
+                keeper.hear(alike)
+                self.assertEqual(wanted, (5, name))
+            told.append((keeper.most(), list(keeper.most())))
+        for name in (5, 7, 8, 6):
+            keeper.go(name)
+            told.append((keeper.most(), list(keeper.most())))
+        for kept, due in told:
+            self.assertEqual(kept, due)
+        due = [[5], [5, 6], [5, 6, 7], [5, 6, 7], [6, 7], [], [6], []]
+        self.assertEqual([kept for kept, same in told], due)
 
 
 class TheKindsOfValues(unittest.TestCase):
